@@ -1,0 +1,1 @@
+"""Walkdues: branching tasks on one processor, and what fits beside them."""
