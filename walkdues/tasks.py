@@ -52,7 +52,7 @@ class Task:
 
     def followers(self, kind):
         """The tuples (second, gap) of the arrows that lead from this kind."""
-        # A kind without followers is told from a kind that the task does not have.
+        # Looked up first, since a kind that the task does not have is an error, not a kind without followers.
         name = self._kind_called(kind)[0]
         return [(second, gap) for first, second, gap in self._arrows if first == name]
 
