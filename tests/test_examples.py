@@ -3,7 +3,10 @@
 import unittest
 
 from helper import DuesCase
-from walkdues.errors import BadLine, OutOfRange
+from walkdues.errors import BadLine, GapTooShort, OutOfRange, Overlap
+from walkdues.intervals import heaviest_interval, interval_demands
+from walkdues.runs import Run
+from walkdues.schedules import earliest_deadline, job_lateness, run_by, worst_lateness
 from walkdues.tasks import Task
 from walkdues.texts import read_tasks, write_tasks
 
@@ -24,6 +27,40 @@ class TaskExamples(DuesCase):
 
     def test_leading_zero(self):
         self.assert_error(BadLine, (2,), read_tasks, "task p\nkind a 02 3\n")
+
+
+class RunExamples(DuesCase):
+    def test_jobs(self):
+        task = Task("pump", [("a", 2, 3), ("b", 1, 2)], [("a", "b", 2), ("b", "a", 4)])
+        jobs = Run([task], [[("a", 0, 3), ("b", 5, 2)]], grain=2).jobs
+        self.assertEqual(jobs, [(0, 0, "a", 0, 3, 6), (0, 1, "b", 5, 2, 9)])
+
+    def test_gap_too_short(self):
+        tasks = [Task("t", [("a", 2, 3)], [("a", "a", 2)])]
+        self.assert_error(GapTooShort, (0, 1), Run, tasks, [[("a", 0, 1), ("a", 3, 1)]], grain=2)
+
+
+class ScheduleExamples(DuesCase):
+    def test_schedules(self):
+        tasks = [Task.single("p", 3, 9), Task.single("q", 2, 4)]
+        run = Run(tasks, [[("job", 0, 3)], [("job", 1, 2)]])
+        self.assertEqual(earliest_deadline(run), [(0, 1, 0), (1, 3, 1), (3, 5, 0)])
+        self.assertEqual(run_by(run, lambda job: job[3], speed=2), [(0, 3, 0), (3, 5, 1)])
+        told = [job_lateness(run, earliest_deadline(run)), worst_lateness(run, earliest_deadline(run))]
+        self.assertEqual(told, [[-4, -2], -2])
+
+    def test_overlap(self):
+        run = Run([Task.single("p", 3, 9)], [[("job", 0, 3)]])
+        self.assert_error(Overlap, (1,), job_lateness, run, [(0, 2, 0), (1, 2, 0)])
+
+
+class IntervalExamples(DuesCase):
+    def test_intervals(self):
+        tasks = [Task.single("p", 3, 4), Task.single("q", 2, 4)]
+        run = Run(tasks, [[("job", 0, 3)], [("job", 1, 2)]])
+        self.assertEqual(list(interval_demands(run)), [(0, 4, 3), (0, 5, 5), (1, 5, 2)])
+        self.assertEqual(heaviest_interval(run), (0, 0, 5))
+        self.assertEqual(heaviest_interval(run, speed=2), (-5, 0, 4))
 
 
 if __name__ == "__main__":

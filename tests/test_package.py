@@ -7,6 +7,9 @@ import unittest
 
 import walkdues
 from helper import ERRORS
+from walkdues.intervals import heaviest_interval, interval_demands
+from walkdues.runs import Run
+from walkdues.schedules import earliest_deadline, job_lateness, run_by, worst_lateness
 from walkdues.tasks import Task
 from walkdues.texts import read_tasks, write_tasks
 
@@ -17,6 +20,9 @@ INTERFACE = {
     "errors": {"DuesError": (), **{name: () for name in ERRORS}},
     "tasks": {"Task": ("__init__", "kinds", "arrows", "cost_of", "deadline_of", "followers", "single")},
     "texts": {"read_tasks": (), "write_tasks": ()},
+    "runs": {"Run": ("__init__", "jobs")},
+    "schedules": {"run_by": (), "earliest_deadline": (), "job_lateness": (), "worst_lateness": ()},
+    "intervals": {"interval_demands": (), "heaviest_interval": ()},
 }
 SIGNATURES = {
     Task: "(name, kinds, arrows=())",
@@ -26,7 +32,15 @@ SIGNATURES = {
     Task.single: "(name, cost, deadline)",
     read_tasks: "(text)",
     write_tasks: "(tasks)",
+    Run: "(tasks, walks, *, grain=1)",
+    run_by: "(run, key, *, speed=1)",
+    earliest_deadline: "(run, *, speed=1)",
+    job_lateness: "(run, schedule, *, speed=1)",
+    worst_lateness: "(run, schedule, *, speed=1)",
+    interval_demands: "(run)",
+    heaviest_interval: "(run, *, speed=1)",
 }
+PROPERTIES = [(Task, "kinds"), (Task, "arrows"), (Run, "jobs")]
 LIBRARY = {"heapq", "math", "itertools", "__future__"}
 
 
@@ -61,8 +75,8 @@ class Interface(unittest.TestCase):
                 self.assertEqual(str(inspect.signature(thing)), signature)
 
     def test_properties(self):
-        for name in ("kinds", "arrows"):
-            self.assertIsInstance(vars(Task)[name], property)
+        for owner, name in PROPERTIES:
+            self.assertIsInstance(vars(owner)[name], property)
 
 
 class Bounds(unittest.TestCase):
