@@ -3,12 +3,20 @@
 import unittest
 
 from helper import DuesCase
+from walkdues.closed import closing, closing_holds, demand_row, task_row
+from walkdues.cycles import (
+    common_period, critical_cycles, heights, rate, simple_cycles, utilization, utilization_holds,
+)
+from walkdues.demand import demand, heavy_run, heavy_walk, kind_demands, walk_demand
 from walkdues.errors import BadLine, GapTooShort, OutOfRange, Overlap
 from walkdues.intervals import heaviest_interval, interval_demands
+from walkdues.rows import Row, first_below
 from walkdues.runs import Run
 from walkdues.schedules import earliest_deadline, job_lateness, run_by, worst_lateness
 from walkdues.tasks import Task
 from walkdues.texts import read_tasks, write_tasks
+
+PUMP = Task("pump", [("a", 2, 3), ("b", 1, 2)], [("a", "b", 2), ("b", "a", 4)])
 
 
 class TaskExamples(DuesCase):
@@ -61,6 +69,57 @@ class IntervalExamples(DuesCase):
         self.assertEqual(list(interval_demands(run)), [(0, 4, 3), (0, 5, 5), (1, 5, 2)])
         self.assertEqual(heaviest_interval(run), (0, 0, 5))
         self.assertEqual(heaviest_interval(run, speed=2), (-5, 0, 4))
+
+
+class DemandExamples(DuesCase):
+    def test_demands(self):
+        self.assertEqual(kind_demands(PUMP, 9), {
+            "a": [0, 0, 0, 2, 3, 3, 3, 3, 3, 5], "b": [0, 0, 1, 1, 1, 1, 1, 3, 4, 4]
+        })
+        self.assertEqual(demand([PUMP, Task.single("s", 2, 5)], 9), [0, 0, 1, 2, 3, 5, 5, 5, 6, 7])
+        told = [
+            walk_demand(PUMP, heavy_walk(PUMP, 9), 9), heavy_walk(PUMP, 1), walk_demand(PUMP, [("a", 1), ("b", 4)], 6)
+        ]
+        self.assertEqual(told, [5, [], 3])
+        self.assertEqual([heavy_run([PUMP], 1).jobs, heavy_run([PUMP], 4).grain], [[], 1])
+
+    def test_gap_too_short(self):
+        task = Task("p", [("a", 2, 3)], [("a", "a", 4)])
+        self.assert_error(GapTooShort, (0, 1), walk_demand, task, [("a", 0), ("a", 3)], 9)
+
+
+class CycleExamples(DuesCase):
+    def test_cycles(self):
+        task = Task("t", [("a", 3, 5), ("b", 1, 4)], [("a", "a", 6), ("a", "b", 1), ("b", "a", 3)])
+        self.assertEqual(simple_cycles(task), [(("a",), 3, 6), (("a", "b"), 4, 4)])
+        told = [rate(task, "b"), utilization([task, task]), critical_cycles(task), common_period([task])]
+        self.assertEqual(told, [(1, 1), (2, 1), [(("a", "b"), 4, 4)], 4])
+        told = [
+            heights(task), utilization_holds(task, (1, 1), ("b", "a"), {"a": 2, "b": 0}),
+            utilization_holds(task, (1, 1), ("a",), {"a": 2, "b": 0}),
+        ]
+        self.assertEqual(told, [{"a": 2, "b": 0}, True, False])
+
+
+class RowExamples(DuesCase):
+    def test_row(self):
+        row = Row([0, 4, 3, 5, 6, 5, 7, 8], 6, 4)
+        self.assertEqual([row.start, row.period, row.gain, row.head], [1, 3, 2, [0, 4, 3, 5]])
+        self.assertEqual(row(1000002), 666671)
+        self.assertEqual(row.lowest_ahead().head, [0, 3, 3, 5])
+        self.assertEqual([first_below(Row.steady(1), row), first_below(row, Row.steady(1))], [1, 8])
+
+
+class ClosedExamples(DuesCase):
+    def test_closing(self):
+        self.assertEqual(closing(PUMP), (7, 6, {"a": 3, "b": 3}))
+        told = [
+            closing_holds(PUMP, 7, 6, {"b": 3, "a": 3}), closing_holds(PUMP, 6, 6, {"a": 3, "b": 3}),
+            closing_holds(PUMP, 8, 12, {"a": 6, "b": 6}),
+        ]
+        self.assertEqual(told, [True, False, True])
+        self.assertEqual([task_row(PUMP).start, task_row(PUMP).period, task_row(PUMP)(1000001)], [0, 6, 500001])
+        self.assertEqual(demand_row([PUMP, Task.single("s", 2, 5)]).head, [0, 0, 1, 2, 3, 5, 5, 5, 6, 7, 8])
 
 
 if __name__ == "__main__":

@@ -7,7 +7,13 @@ import unittest
 
 import walkdues
 from helper import ERRORS
+from walkdues.closed import closing, closing_holds, demand_row, task_row
+from walkdues.cycles import (
+    common_period, critical_cycles, heights, rate, simple_cycles, utilization, utilization_holds,
+)
+from walkdues.demand import demand, heavy_run, heavy_walk, kind_demands, walk_demand
 from walkdues.intervals import heaviest_interval, interval_demands
+from walkdues.rows import Row, first_below
 from walkdues.runs import Run
 from walkdues.schedules import earliest_deadline, job_lateness, run_by, worst_lateness
 from walkdues.tasks import Task
@@ -23,6 +29,19 @@ INTERFACE = {
     "runs": {"Run": ("__init__", "jobs")},
     "schedules": {"run_by": (), "earliest_deadline": (), "job_lateness": (), "worst_lateness": ()},
     "intervals": {"interval_demands": (), "heaviest_interval": ()},
+    "demand": {"kind_demands": (), "demand": (), "heavy_walk": (), "walk_demand": (), "heavy_run": ()},
+    "cycles": {
+        "simple_cycles": (), "critical_cycles": (), "rate": (), "utilization": (), "common_period": (), "heights": (),
+        "utilization_holds": (),
+    },
+    "rows": {
+        "Row": (
+            "__init__", "__call__", "__eq__", "__contains__", "__add__", "head", "minus", "covers", "lowest_ahead",
+            "steady", "step",
+        ),
+        "first_below": (),
+    },
+    "closed": {"closing_holds": (), "closing": (), "task_row": (), "demand_row": ()},
 }
 SIGNATURES = {
     Task: "(name, kinds, arrows=())",
@@ -39,8 +58,37 @@ SIGNATURES = {
     worst_lateness: "(run, schedule, *, speed=1)",
     interval_demands: "(run)",
     heaviest_interval: "(run, *, speed=1)",
+    kind_demands: "(task, ticks)",
+    demand: "(tasks, ticks)",
+    heavy_walk: "(task, ticks)",
+    walk_demand: "(task, walk, ticks)",
+    heavy_run: "(tasks, ticks)",
+    simple_cycles: "(task)",
+    critical_cycles: "(task)",
+    rate: "(task, kind)",
+    utilization: "(tasks)",
+    common_period: "(tasks)",
+    heights: "(task)",
+    utilization_holds: "(task, ratio, cycle, levels)",
+    Row: "(head, period, gain)",
+    Row.__call__: "(self, index)",
+    Row.minus: "(self, other)",
+    Row.covers: "(self, other)",
+    Row.lowest_ahead: "(self)",
+    Row.steady: "(slope)",
+    Row.step: "(cost, deadline)",
+    first_below: "(row, other)",
+    closing_holds: "(task, start, period, gains)",
+    closing: "(task)",
+    task_row: "(task)",
+    demand_row: "(tasks)",
 }
-PROPERTIES = [(Task, "kinds"), (Task, "arrows"), (Run, "jobs")]
+PROPERTIES = [(Task, "kinds"), (Task, "arrows"), (Run, "jobs"), (Row, "head")]
+# What LANGUAGE.md does not allow anywhere, or what the package has no need of.
+BARRED = (
+    ast.Global, ast.AsyncFunctionDef, ast.GeneratorExp, ast.Try, ast.With, ast.Match, ast.AnnAssign, ast.Set,
+    ast.Nonlocal, ast.Await, ast.JoinedStr,
+)
 LIBRARY = {"heapq", "math", "itertools", "__future__"}
 
 
@@ -101,6 +149,20 @@ class Bounds(unittest.TestCase):
             for node in nodes_of(path, ast.FunctionDef):
                 with self.subTest(f"{path.name}: {node.name}"):
                     self.assertLessEqual(node.end_lineno - node.lineno + 1, 40)
+
+    def test_statements_and_expressions(self):
+        for path in files():
+            # The texts of tasks are the only ones that are put together.
+            barred = tuple(kind for kind in BARRED if path.name != "texts.py" or kind is not ast.JoinedStr)
+            self.assertEqual([node.lineno for node in nodes_of(path, *barred) if hasattr(node, "lineno")], [])
+            self.assertEqual(nodes_of(path, ast.Div, ast.MatMult), [])
+            for node in nodes_of(path, ast.Constant):
+                self.assertNotIsInstance(node.value, (float, complex, bytes))
+                self.assertNotIn("%", node.value if isinstance(node.value, str) else "")
+            for node in nodes_of(path, ast.FunctionDef):
+                told = [item.id for item in node.decorator_list if isinstance(item, ast.Name)]
+                self.assertLessEqual(set(told), {"property", "staticmethod"})
+                self.assertEqual(len(told), len(node.decorator_list))
 
     def test_imports(self):
         for path in files():
