@@ -5,7 +5,10 @@ Everything by chance is drawn from a random.Random with a fixed seed, so each ru
 
 import unittest
 
+from walkdues.cycles import common_period
+from walkdues.rows import Row
 from walkdues.runs import Run
+from walkdues.service import calendar_row
 from walkdues.tasks import Task
 
 # The attributes of each error class, in the order in which the interface lists them.
@@ -39,6 +42,21 @@ ERRORS = {
     "Present": ("name",),
     "Absent": ("name",),
     "NothingToUndo": (),
+}
+HUGE = 10 ** 40
+BAD_SPEEDS = (0, -1, 100, -99, HUGE, -HUGE)
+
+# The same numbers never meet here: what is compared is always of one kind.
+KEYS = {
+    "due": lambda job: job[5],
+    "release": lambda job: job[3],
+    "latest first": lambda job: -job[3],
+    "negative due": lambda job: -job[5] - 1,
+    "the same": lambda job: 7,
+    "the same tuple": lambda job: (),
+    "cost, then due": lambda job: (job[4], -job[5]),
+    "tuples of several lengths": lambda job: (job[0] % 2,) * (1 + job[1] % 3),
+    "a large number": lambda job: HUGE * (job[0] - 2),
 }
 
 
@@ -89,3 +107,100 @@ def single_run(*jobs):
     """A run of tasks without arrows: each job is (release, cost, deadline)."""
     tasks = [Task.single("s", cost, deadline) for _, cost, deadline in jobs]
     return Run(tasks, [[("job", release, cost)] for release, cost, _ in jobs])
+
+
+def loops(*gaps):
+    """A task with a loop with each of these gaps, and no other arrow."""
+    names = "abcd"[:len(gaps)]
+    arrows = [(name, name, gap) for name, gap in zip(names, gaps)]
+    return Task("loops", [(name, 1, 1) for name in names], arrows)
+
+
+def ring(*gaps):
+    """A task with one cycle with these gaps."""
+    names = "abcd"[:len(gaps)]
+    arrows = [(name, names[place - len(names) + 1], gaps[place]) for place, name in enumerate(names)]
+    return Task("ring", [(name, 1, 1) for name in names], arrows)
+
+
+def some_calendar(chance, length=None):
+    """A calendar of this length, or of any length."""
+    marks = [chance.choice("01") for _ in range(length or chance.randint(1, 24))]
+    marks[chance.randrange(len(marks))] = "1"
+    return "".join(marks)
+
+
+def row_of_steps(steps, period):
+    """The row that begins with 0 and grows by these steps; the last ones, as many as the period, are repeated."""
+    values = [sum(steps[:count]) for count in range(len(steps) + 1)]
+    return Row(values[:-1], period, values[-1] - values[-1 - period])
+
+
+def some_service(chance):
+    """A service: steady, of a calendar, uneven at first, or one that stops to grow."""
+    sort = chance.choice(["steady", "calendar", "uneven", "ending"])
+    if sort == "steady":
+        return Row.steady(chance.choice([0, 1, 1, 2, 3, 5]))
+    if sort == "calendar":
+        return calendar_row(some_calendar(chance), speed=chance.choice([1, 2, 5, 20]))
+    steps = [chance.choice([0, 0, 1, 2, 9]) for _ in range(chance.randint(2, 30))]
+    if sort == "uneven":
+        return row_of_steps(steps, chance.randint(1, len(steps)))
+    return row_of_steps(steps + [0], 1)
+
+
+def some_tasks(chance, most_tasks=4, most_period=100, **bounds):
+    """A list of a few tasks, some of them without arrows; one may stand in it twice."""
+    while True:
+        tasks = [some_task(chance, f"t{number}", **bounds) for number in range(chance.randint(0, most_tasks - 1))]
+        tasks += [single_task(chance, 20) for _ in range(chance.randint(0, 2))]
+        chance.shuffle(tasks)
+        if common_period(tasks) <= most_period:
+            return tasks + chance.choice([[], tasks[:1]])
+
+
+def light_tasks(chance, most_tasks=3, most_period=100):
+    """A list of a few tasks that ask for little: small costs, wide gaps, late deadlines."""
+    while True:
+        tasks = [light_task(chance, f"t{number}") for number in range(chance.randint(0, most_tasks))]
+        tasks += [single_task(chance, 4, 9) for _ in range(chance.randint(0, 2))]
+        if common_period(tasks) <= most_period:
+            return tasks
+
+
+def light_task(chance, name):
+    kinds = [(kind, chance.randint(1, 3), chance.randint(6, 24)) for kind in "ab"]
+    pairs = chance.sample([("a", "a"), ("a", "b"), ("b", "a"), ("b", "b")], chance.randint(1, 4))
+    return Task(name, kinds, [(first, second, chance.randint(9, 12)) for first, second in pairs])
+
+
+def single_task(chance, most_cost=99, least_deadline=1):
+    return Task.single("s", chance.randint(1, most_cost), chance.randint(least_deadline, 99))
+
+
+def play(run, key, speed, calendar="1", begin=0):
+    """The schedule unit by unit, as the document says it."""
+    jobs = run.jobs
+    left = [job[4] for job in jobs]
+    worked = []
+    unit = 0
+    while any(left):
+        tick = begin + unit // (run.grain * speed)
+        ready = [(key(jobs[at]), at) for at in range(len(jobs)) if left[at] > 0 and jobs[at][3] * speed <= unit]
+        if ready and calendar[tick % len(calendar)] == "1":
+            at = min(ready)[1]
+            left[at] -= 1
+            worked.append((unit, at))
+        unit += 1
+    return joined(worked)
+
+
+def joined(worked):
+    """The slices of the units (unit, index) in which there is work."""
+    slices = []
+    for unit, index in worked:
+        if slices and slices[-1][1] == unit and slices[-1][2] == index:
+            slices[-1] = (slices[-1][0], unit + 1, index)
+        else:
+            slices.append((unit, unit + 1, index))
+    return slices

@@ -5,7 +5,7 @@ import random
 import unittest
 from fractions import Fraction
 
-from helper import DuesCase, some_task
+from helper import DuesCase, loops, ring, some_task
 from walkdues.closed import closing, closing_holds, demand_row, task_row
 from walkdues.cycles import common_period, rate, utilization
 from walkdues.demand import demand, kind_demands
@@ -18,20 +18,6 @@ SINGLE = Task.single("s", 2, 5)
 CHAIN = Task("chain", [("a", 2, 9), ("b", 5, 3), ("c", 9, 1)], [("a", "b", 4), ("b", "c", 6)])
 # The kind b is soon overtaken in the long run, but a has the greater demand for long.
 SLOW = Task("slow", [("a", 9, 1), ("b", 5, 24)], [("a", "a", 11), ("b", "b", 6)])
-
-
-def loops(*gaps):
-    """A task with a loop with each of these gaps, and no other arrow."""
-    names = "abcd"[:len(gaps)]
-    arrows = [(name, name, gap) for name, gap in zip(names, gaps)]
-    return Task("loops", [(name, 1, 1) for name in names], arrows)
-
-
-def ring(*gaps):
-    """A task with one cycle with these gaps."""
-    names = "abcd"[:len(gaps)]
-    arrows = [(name, names[place - len(names) + 1], gaps[place]) for place, name in enumerate(names)]
-    return Task("ring", [(name, 1, 1) for name in names], arrows)
 
 
 def is_closing(task, start, period, gains):

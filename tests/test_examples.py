@@ -4,17 +4,20 @@ import unittest
 
 from helper import DuesCase
 from walkdues.closed import closing, closing_holds, demand_row, task_row
+from walkdues.company import compare, compare_speeds, fits, fits_job, greatest_cost
 from walkdues.cycles import (
     common_period, critical_cycles, heights, rate, simple_cycles, utilization, utilization_holds,
 )
 from walkdues.demand import demand, heavy_run, heavy_walk, kind_demands, walk_demand
-from walkdues.errors import BadLine, GapTooShort, OutOfRange, Overlap
+from walkdues.errors import BadLine, GapTooShort, LateSet, OutOfRange, Overlap, Overloaded
 from walkdues.intervals import heaviest_interval, interval_demands
 from walkdues.rows import Row, first_below
 from walkdues.runs import Run
 from walkdues.schedules import earliest_deadline, job_lateness, run_by, worst_lateness
+from walkdues.service import calendar_row, worst_begin
 from walkdues.tasks import Task
 from walkdues.texts import read_tasks, write_tasks
+from walkdues.verdicts import first_excess, greatest_lateness, least_speed, slack_row
 
 PUMP = Task("pump", [("a", 2, 3), ("b", 1, 2)], [("a", "b", 2), ("b", "a", 4)])
 
@@ -120,6 +123,46 @@ class ClosedExamples(DuesCase):
         self.assertEqual(told, [True, False, True])
         self.assertEqual([task_row(PUMP).start, task_row(PUMP).period, task_row(PUMP)(1000001)], [0, 6, 500001])
         self.assertEqual(demand_row([PUMP, Task.single("s", 2, 5)]).head, [0, 0, 1, 2, 3, 5, 5, 5, 6, 7, 8])
+
+
+class ServiceExamples(DuesCase):
+    def test_calendar(self):
+        row = calendar_row("1101", speed=2)
+        self.assertEqual([row(1), row(2), row(3), row(4), row(5), row(6)], [0, 2, 4, 6, 6, 8])
+        self.assertEqual(worst_begin("1101", 2), 1)
+
+
+class VerdictExamples(DuesCase):
+    def test_pump(self):
+        slack = slack_row([PUMP])
+        self.assertEqual([slack.head, slack.period, slack.gain], [[0, 1, 1, 1, 1, 2], 6, 3])
+        self.assertEqual(first_excess([PUMP, Task.single("s", 2, 2)]), (2, 1))
+        self.assertEqual(greatest_lateness([PUMP]), (-1, 2))
+        self.assertEqual(least_speed([PUMP]), (3, 4))
+
+    def test_overloaded(self):
+        task = Task("t", [("a", 5, 9)], [("a", "a", 2)])
+        self.assert_error(Overloaded, (5, 2), slack_row, [task], service=Row.steady(2))
+
+
+class CompanyExamples(DuesCase):
+    def test_pump(self):
+        plain = Task("plain", [("a", 3, 4)], [("a", "a", 6)])
+        told = [
+            fits([PUMP], [Task.single("s", 1, 2)]), fits_job([PUMP], 2, 4), fits_job([PUMP], 2, 5),
+            greatest_cost([PUMP], 8),
+        ]
+        self.assertEqual(told, [True, False, True, 4])
+        told = [compare([PUMP], [plain]), compare([PUMP], [])]
+        self.assertEqual(told, [("alike", None, None), ("less", None, (2, 2))])
+        told = [
+            compare_speeds([PUMP], [plain])[0], compare_speeds([], [PUMP])[0], compare_speeds([PUMP], [PUMP])
+        ]
+        self.assertEqual(told, ["heavier", "lighter", ("alike", None, None)])
+
+    def test_late_set(self):
+        tasks, others = [Task.single("s", 1, 1)], [Task.single("s", 2, 1)]
+        self.assert_error(LateSet, (2,), compare, tasks, others)
 
 
 if __name__ == "__main__":

@@ -8,6 +8,7 @@ import unittest
 import walkdues
 from helper import ERRORS
 from walkdues.closed import closing, closing_holds, demand_row, task_row
+from walkdues.company import compare, compare_speeds, fits, fits_job, greatest_cost
 from walkdues.cycles import (
     common_period, critical_cycles, heights, rate, simple_cycles, utilization, utilization_holds,
 )
@@ -16,8 +17,10 @@ from walkdues.intervals import heaviest_interval, interval_demands
 from walkdues.rows import Row, first_below
 from walkdues.runs import Run
 from walkdues.schedules import earliest_deadline, job_lateness, run_by, worst_lateness
+from walkdues.service import calendar_row, calendar_slices, worst_begin
 from walkdues.tasks import Task
 from walkdues.texts import read_tasks, write_tasks
+from walkdues.verdicts import first_excess, greatest_lateness, least_speed, never_late, slack_row
 
 FOLDER = pathlib.Path(walkdues.__file__).parent
 
@@ -42,6 +45,9 @@ INTERFACE = {
         "first_below": (),
     },
     "closed": {"closing_holds": (), "closing": (), "task_row": (), "demand_row": ()},
+    "service": {"calendar_row": (), "worst_begin": (), "calendar_slices": ()},
+    "verdicts": {"first_excess": (), "never_late": (), "slack_row": (), "greatest_lateness": (), "least_speed": ()},
+    "company": {"fits": (), "fits_job": (), "greatest_cost": (), "compare": (), "compare_speeds": ()},
 }
 SIGNATURES = {
     Task: "(name, kinds, arrows=())",
@@ -82,6 +88,19 @@ SIGNATURES = {
     closing: "(task)",
     task_row: "(task)",
     demand_row: "(tasks)",
+    calendar_row: "(calendar, *, speed=1)",
+    worst_begin: "(calendar, ticks)",
+    calendar_slices: "(run, calendar, key, *, begin=0, speed=1)",
+    first_excess: "(tasks, *, service=None)",
+    never_late: "(tasks, *, service=None)",
+    slack_row: "(tasks, *, service=None)",
+    greatest_lateness: "(tasks, *, speed=1)",
+    least_speed: "(tasks)",
+    fits: "(tasks, company, *, service=None)",
+    fits_job: "(tasks, cost, deadline, *, service=None)",
+    greatest_cost: "(tasks, deadline, *, service=None)",
+    compare: "(tasks, others, *, service=None)",
+    compare_speeds: "(tasks, others)",
 }
 PROPERTIES = [(Task, "kinds"), (Task, "arrows"), (Run, "jobs"), (Row, "head")]
 # What LANGUAGE.md does not allow anywhere, or what the package has no need of.

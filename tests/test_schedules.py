@@ -3,55 +3,13 @@
 import random
 import unittest
 
-from helper import DuesCase, single_run, some_run
+from helper import BAD_SPEEDS, HUGE, KEYS, DuesCase, play, single_run, some_run
 from walkdues.errors import EmptySlice, OutOfRange, Overlap, TooEarly, UnknownJob, WrongAmount
 from walkdues.runs import Run
 from walkdues.schedules import earliest_deadline, job_lateness, run_by, worst_lateness
 from walkdues.tasks import Task
 
-HUGE = 10 ** 40
 SPEEDS = (1, 2, 3, 7, 98, 99)
-BAD_SPEEDS = (0, -1, 100, -99, HUGE, -HUGE)
-
-# The same numbers never meet here: what is compared is always of one kind.
-KEYS = {
-    "due": lambda job: job[5],
-    "release": lambda job: job[3],
-    "latest first": lambda job: -job[3],
-    "negative due": lambda job: -job[5] - 1,
-    "the same": lambda job: 7,
-    "the same tuple": lambda job: (),
-    "cost, then due": lambda job: (job[4], -job[5]),
-    "tuples of several lengths": lambda job: (job[0] % 2,) * (1 + job[1] % 3),
-    "a large number": lambda job: HUGE * (job[0] - 2),
-}
-
-
-def play(run, key, speed):
-    """The schedule unit by unit, as the document says it."""
-    jobs = run.jobs
-    left = [job[4] for job in jobs]
-    worked = []
-    unit = 0
-    while any(left):
-        ready = [(key(jobs[at]), at) for at in range(len(jobs)) if left[at] > 0 and jobs[at][3] * speed <= unit]
-        if ready:
-            at = min(ready)[1]
-            left[at] -= 1
-            worked.append((unit, at))
-        unit += 1
-    return joined(worked)
-
-
-def joined(worked):
-    """The slices of the units (unit, index) in which there is work."""
-    slices = []
-    for unit, index in worked:
-        if slices and slices[-1][1] == unit and slices[-1][2] == index:
-            slices[-1] = (slices[-1][0], unit + 1, index)
-        else:
-            slices.append((unit, unit + 1, index))
-    return slices
 
 
 def small_run(chance, speed):

@@ -132,14 +132,18 @@ def check_period(period):
 
 def first_below(row, other):
     """The least index at which the value of a row is less than the one of the other; None if there is none."""
-    difference = row.minus(other)
-    head = difference.head
+    return first_negative(row.minus(other))
+
+
+def first_negative(row):
+    """The least index at which the value of a row is below 0; None if there is none."""
+    head = row.head
     for index, value in enumerate(head):
         if value < 0:
             return index
-    if difference.gain >= 0:
+    if row.gain >= 0:
         return None
     # At each place of the first period, the value falls by the same amount with each turn.
-    fall = -difference.gain
-    places = range(difference.start, len(head))
-    return min([place + (head[place] // fall + 1) * difference.period for place in places])
+    fall = -row.gain
+    places = range(row.start, len(head))
+    return min([place + (head[place] // fall + 1) * row.period for place in places])

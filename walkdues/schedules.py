@@ -12,7 +12,7 @@ def run_by(run, key, *, speed=1):
     """The schedule that always works on the released and unfinished job with the least key."""
     check_range("speed", speed, GREATEST_SPEED)
     jobs = run.jobs
-    return least_key_first(jobs, [key(job) for job in jobs], speed)
+    return least_key_first(jobs, [job[3] * speed for job in jobs], [key(job) for job in jobs])
 
 
 def earliest_deadline(run, *, speed=1):
@@ -20,12 +20,14 @@ def earliest_deadline(run, *, speed=1):
     return run_by(run, lambda job: job[5], speed=speed)
 
 
-def least_key_first(jobs, keys, speed):
-    """The slices in which the jobs of a run are worked on, if the least key goes first."""
+def least_key_first(jobs, releases, keys):
+    """The slices in which the jobs of a run, released at these units, are worked on, if the least key goes first."""
     slices = []
     waiting = []
     left = [job[4] for job in jobs]
-    for index, (now, stop) in enumerate(stretches(jobs, speed)):
+    # The last stretch is long enough for all work.
+    stops = releases[1:] + [max(releases, default=0) + sum(left)]
+    for index, (now, stop) in enumerate(zip(releases, stops)):
         heappush(waiting, (keys[index], index))
         while waiting and now < stop:
             current = waiting[0][1]
@@ -36,13 +38,6 @@ def least_key_first(jobs, keys, speed):
                 heappop(waiting)
             now = end
     return slices
-
-
-def stretches(jobs, speed):
-    """For each job the units of its release and of the next one; the last stretch is long enough for all work."""
-    releases = [job[3] * speed for job in jobs]
-    end = max(releases, default=0) + sum([job[4] for job in jobs])
-    return list(zip(releases, releases[1:] + [end]))
 
 
 def add_slice(slices, start, end, index):
