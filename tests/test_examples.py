@@ -3,20 +3,24 @@
 import unittest
 
 from helper import DuesCase
+from walkdues.backlog import first_come, greatest_backlog, greatest_response, request_row, unfinished
 from walkdues.closed import closing, closing_holds, demand_row, task_row
 from walkdues.company import compare, compare_speeds, fits, fits_job, greatest_cost
 from walkdues.cycles import (
     common_period, critical_cycles, heights, rate, simple_cycles, utilization, utilization_holds,
 )
 from walkdues.demand import demand, heavy_run, heavy_walk, kind_demands, walk_demand
-from walkdues.errors import BadLine, GapTooShort, LateSet, OutOfRange, Overlap, Overloaded
+from walkdues.desk import Desk
+from walkdues.errors import BadLine, GapTooShort, LateSet, OutOfRange, Overlap, Overloaded, Refused
 from walkdues.intervals import heaviest_interval, interval_demands
+from walkdues.limits import greatest_cost_of, least_deadline_of, least_gap_of, least_switch, succession
 from walkdues.rows import Row, first_below
 from walkdues.runs import Run
 from walkdues.schedules import earliest_deadline, job_lateness, run_by, worst_lateness
 from walkdues.service import calendar_row, worst_begin
 from walkdues.tasks import Task
 from walkdues.texts import read_tasks, write_tasks
+from walkdues.tries import certain_answer
 from walkdues.verdicts import first_excess, greatest_lateness, least_speed, slack_row
 
 PUMP = Task("pump", [("a", 2, 3), ("b", 1, 2)], [("a", "b", 2), ("b", "a", 4)])
@@ -163,6 +167,57 @@ class CompanyExamples(DuesCase):
     def test_late_set(self):
         tasks, others = [Task.single("s", 1, 1)], [Task.single("s", 2, 1)]
         self.assert_error(LateSet, (2,), compare, tasks, others)
+
+
+class LimitExamples(DuesCase):
+    def test_pump(self):
+        told = [
+            greatest_cost_of([PUMP], 0, "a"), least_deadline_of([PUMP], 0, "b"), least_gap_of([PUMP], 0, "a", "b")
+        ]
+        self.assertEqual(told, [3, 1, 1])
+
+    def test_succession(self):
+        drain = Task("drain", [("c", 3, 3)], [("c", "c", 5)])
+        told = [
+            succession(PUMP, drain, 3).arrows[3:], least_switch(PUMP, drain, []),
+            least_switch(PUMP, drain, [Task.single("s", 1, 1)]),
+        ]
+        self.assertEqual(told, [[("a", "c", 3), ("b", "c", 3)], 2, None])
+
+
+class TryExamples(DuesCase):
+    def test_certain_answer(self):
+        tries = [(3, 6, True), (3, 4, False)]
+        told = [certain_answer(tries, 2, 5), certain_answer(tries, 3, 5), certain_answer(tries, 4, 5)]
+        self.assertEqual(told, [True, None, False])
+
+
+class DeskExamples(DuesCase):
+    def test_desk(self):
+        desk = Desk()
+        desk.admit_all([Task.single("x", 1, 1), Task.single("y", 2, 5)])
+        desk.leave("x")
+        told = [desk.names, desk.room(5), desk.undo(), desk.names, desk.room(5)]
+        self.assertEqual(told, [["y"], 3, None, ["x", "y"], 2])
+        self.assertEqual(desk.log, [("admit", "x"), ("admit", "y"), ("leave", "x"), ("undo",)])
+
+    def test_refused(self):
+        desk = Desk()
+        desk.admit(PUMP)
+        self.assert_error(Refused, ("y", 2, 1), desk.admit_all, [Task.single("x", 1, 1), Task.single("y", 1, 2)])
+
+
+class BacklogExamples(DuesCase):
+    def test_requests(self):
+        row = request_row([PUMP])
+        self.assertEqual([row(0), row(1), row(2), row(5), row(6), row(8)], [2, 2, 3, 3, 5, 6])
+        self.assertEqual([greatest_backlog([PUMP]), greatest_backlog([PUMP, PUMP])], [(2, 0), (4, 0)])
+
+    def test_first_come(self):
+        tasks = [Task.single("p", 3, 9), Task.single("q", 2, 4)]
+        run = Run(tasks, [[("job", 0, 3)], [("job", 1, 2)]])
+        told = [first_come(run), unfinished(run, first_come(run)), greatest_response(run, first_come(run))]
+        self.assertEqual(told, [[(0, 3, 0), (3, 5, 1)], [(0, 3), (1, 4)], 4])
 
 
 if __name__ == "__main__":

@@ -7,19 +7,23 @@ import unittest
 
 import walkdues
 from helper import ERRORS
+from walkdues.backlog import first_come, greatest_backlog, greatest_response, piling_run, request_row, unfinished
 from walkdues.closed import closing, closing_holds, demand_row, task_row
 from walkdues.company import compare, compare_speeds, fits, fits_job, greatest_cost
 from walkdues.cycles import (
     common_period, critical_cycles, heights, rate, simple_cycles, utilization, utilization_holds,
 )
 from walkdues.demand import demand, heavy_run, heavy_walk, kind_demands, walk_demand
+from walkdues.desk import Desk
 from walkdues.intervals import heaviest_interval, interval_demands
+from walkdues.limits import greatest_cost_of, least_deadline_of, least_gap_of, least_switch, succession
 from walkdues.rows import Row, first_below
 from walkdues.runs import Run
 from walkdues.schedules import earliest_deadline, job_lateness, run_by, worst_lateness
 from walkdues.service import calendar_row, calendar_slices, worst_begin
 from walkdues.tasks import Task
 from walkdues.texts import read_tasks, write_tasks
+from walkdues.tries import answering_set, certain_answer, open_sets
 from walkdues.verdicts import first_excess, greatest_lateness, least_speed, never_late, slack_row
 
 FOLDER = pathlib.Path(walkdues.__file__).parent
@@ -48,6 +52,15 @@ INTERFACE = {
     "service": {"calendar_row": (), "worst_begin": (), "calendar_slices": ()},
     "verdicts": {"first_excess": (), "never_late": (), "slack_row": (), "greatest_lateness": (), "least_speed": ()},
     "company": {"fits": (), "fits_job": (), "greatest_cost": (), "compare": (), "compare_speeds": ()},
+    "limits": {
+        "greatest_cost_of": (), "least_deadline_of": (), "least_gap_of": (), "succession": (), "least_switch": (),
+    },
+    "tries": {"answering_set": (), "certain_answer": (), "open_sets": ()},
+    "desk": {"Desk": ("__init__", "names", "log", "admit", "leave", "admit_all", "undo", "slack", "room")},
+    "backlog": {
+        "request_row": (), "piling_run": (), "unfinished": (), "greatest_backlog": (), "first_come": (),
+        "greatest_response": (),
+    },
 }
 SIGNATURES = {
     Task: "(name, kinds, arrows=())",
@@ -101,8 +114,31 @@ SIGNATURES = {
     greatest_cost: "(tasks, deadline, *, service=None)",
     compare: "(tasks, others, *, service=None)",
     compare_speeds: "(tasks, others)",
+    greatest_cost_of: "(tasks, index, kind, *, service=None)",
+    least_deadline_of: "(tasks, index, kind, *, service=None)",
+    least_gap_of: "(tasks, index, first, second, *, service=None)",
+    succession: "(first, second, gap)",
+    least_switch: "(first, second, rest, *, service=None)",
+    answering_set: "(tries, *, speed=1)",
+    certain_answer: "(tries, cost, deadline, *, speed=1)",
+    open_sets: "(tries, cost, deadline, *, speed=1)",
+    Desk: "(*, service=None)",
+    Desk.admit: "(self, task)",
+    Desk.leave: "(self, name)",
+    Desk.admit_all: "(self, tasks)",
+    Desk.undo: "(self)",
+    Desk.slack: "(self)",
+    Desk.room: "(self, deadline)",
+    request_row: "(tasks)",
+    piling_run: "(tasks, ticks)",
+    unfinished: "(run, schedule, *, speed=1)",
+    greatest_backlog: "(tasks, *, speed=1)",
+    first_come: "(run, *, speed=1)",
+    greatest_response: "(run, schedule, *, speed=1)",
 }
-PROPERTIES = [(Task, "kinds"), (Task, "arrows"), (Run, "jobs"), (Row, "head")]
+PROPERTIES = [(Task, "kinds"), (Task, "arrows"), (Run, "jobs"), (Row, "head"), (Desk, "names"), (Desk, "log")]
+# The modules with nothing of the interface.
+INNER = {"__init__", "leftover"}
 # What LANGUAGE.md does not allow anywhere, or what the package has no need of.
 BARRED = (
     ast.Global, ast.AsyncFunctionDef, ast.GeneratorExp, ast.Try, ast.With, ast.Match, ast.AnnAssign, ast.Set,
@@ -149,7 +185,7 @@ class Interface(unittest.TestCase):
 class Bounds(unittest.TestCase):
     def test_modules(self):
         found = {path.relative_to(FOLDER).as_posix() for path in files()}
-        self.assertEqual(found, {"__init__.py"} | {f"{module}.py" for module in INTERFACE})
+        self.assertEqual(found, {f"{module}.py" for module in INNER | set(INTERFACE)})
         for path in FOLDER.rglob("*"):
             if "__pycache__" not in path.parts:
                 self.assertEqual(path.suffix, ".py")
@@ -171,8 +207,9 @@ class Bounds(unittest.TestCase):
 
     def test_statements_and_expressions(self):
         for path in files():
-            # The texts of tasks are the only ones that are put together.
-            barred = tuple(kind for kind in BARRED if path.name != "texts.py" or kind is not ast.JoinedStr)
+            # The texts of tasks and the names of an answering set are the only strings that are put together.
+            joins = path.name in ("texts.py", "tries.py")
+            barred = tuple(kind for kind in BARRED if not joins or kind is not ast.JoinedStr)
             self.assertEqual([node.lineno for node in nodes_of(path, *barred) if hasattr(node, "lineno")], [])
             self.assertEqual(nodes_of(path, ast.Div, ast.MatMult), [])
             for node in nodes_of(path, ast.Constant):

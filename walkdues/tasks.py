@@ -21,10 +21,9 @@ class Task:
         check_name(name)
         check_count("kinds", len(kinds), 1, MOST_KINDS)
         check_count("arrows", len(arrows), 0, MOST_ARROWS)
-        # The length alone decides here: the arrows themselves are checked after the kinds.
-        limits = LIMITS_WITH_ARROWS if len(arrows) > 0 else LIMITS_WITHOUT_ARROWS
         self.name = name
-        self._kinds = checked_kinds(kinds, limits)
+        # The length alone decides on the limits: the arrows themselves are checked after the kinds.
+        self._kinds = checked_kinds(kinds, limits_for(arrows))
         self._arrows = checked_arrows(arrows, [kind[0] for kind in self._kinds])
 
     @staticmethod
@@ -61,6 +60,11 @@ class Task:
             if kind[0] == name:
                 return kind
         raise UnknownKind(name)
+
+
+def limits_for(arrows):
+    """The greatest cost and the greatest deadline of the kinds of a task with these arrows."""
+    return LIMITS_WITH_ARROWS if len(arrows) > 0 else LIMITS_WITHOUT_ARROWS
 
 
 def checked_kinds(kinds, limits):

@@ -53,18 +53,24 @@ def check_load(tasks, supply):
         raise Overloaded(cost, length)
 
 
-def greatest_lateness(tasks, *, speed=1):
-    """The greatest difference of demand and work over all t with a demand, and the least such t; None without tasks."""
+def steady_service(tasks, speed):
+    """The service of a processor that always works, after the check that the tasks do not overload it."""
     check_range("speed", speed, GREATEST_SPEED)
     supply = checked_service(tasks, Row.steady(speed))
+    check_load(tasks, supply)
+    return supply
+
+
+def greatest_lateness(tasks, *, speed=1):
+    """The greatest difference of demand and work over all t with a demand, and the least such t; None without tasks."""
+    supply = steady_service(tasks, speed)
     if not tasks:
         return None
-    check_load(tasks, supply)
     demands = demand_row(tasks)
     begin = first_below(Row.steady(0), demands)
     # The tasks are not overloaded, so behind the start no difference is above the one a period before it.
     end = max(begin, demands.start) + demands.period
-    differences = [demands(ticks) - speed * ticks for ticks in range(begin, end)]
+    differences = [demands(ticks) - supply(ticks) for ticks in range(begin, end)]
     most = max(differences)
     return (most, begin + differences.index(most))
 
