@@ -200,7 +200,7 @@ class TheFact(DuesCase):
         chance = random.Random(77)
         judged = 0
         for _ in range(150):
-            tasks = light_tasks(chance) + some_tasks(chance, 2)
+            tasks = light_tasks(chance, most_period=20) + some_tasks(chance, 2, most_period=20)
             calendar = some_calendar(chance, chance.randint(1, 9))
             speed = chance.choice([1, 2, 5])
             found = first_excess(tasks, service=calendar_row(calendar, speed=speed))
