@@ -145,6 +145,8 @@ BARRED = (
     ast.Nonlocal, ast.Await, ast.JoinedStr,
 )
 LIBRARY = {"heapq", "math", "itertools", "__future__"}
+# The words that stand nowhere in a file, within longer words, comments and docstrings neither.
+BARRED_WORDS = ("dataclass", "overload", "contextmanager")
 
 
 def files():
@@ -198,6 +200,12 @@ class Bounds(unittest.TestCase):
                 with self.subTest(f"{path.name}:{number}"):
                     self.assertLessEqual(len(line), 120)
                     self.assertTrue(all(" " <= mark <= "~" for mark in line))
+
+    def test_words(self):
+        for path in files():
+            for number, line in enumerate(path.read_text(encoding="ascii").split("\n"), start=1):
+                with self.subTest(f"{path.name}:{number}"):
+                    self.assertEqual([word for word in BARRED_WORDS if word in line], [])
 
     def test_functions(self):
         for path in files():

@@ -60,7 +60,7 @@ def greatest_backlog(tasks, *, speed=1):
     supply = steady_service(tasks, speed)
     if not tasks:
         return None
-    # The tasks are not overloaded, so behind the head no difference is above the one a period before it.
+    # The utilization is at most the speed, so behind the head no difference is above the one a period before it.
     differences = request_row(tasks).minus(supply).head
     most = max(differences)
     return (most, differences.index(most))

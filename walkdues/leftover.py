@@ -30,7 +30,7 @@ class Leftover:
         return excess_of(self._row)
 
     def slack(self):
-        """The slack row of the tasks, which are not overloaded; raises TooLong as beside does."""
+        """The slack row of the tasks, which are never late; raises TooLong as beside does."""
         check_period(self._period)
         return self._row.lowest_ahead()
 

@@ -54,7 +54,7 @@ def check_load(tasks, supply):
 
 
 def steady_service(tasks, speed):
-    """The service of a processor that always works, after the check that the tasks do not overload it."""
+    """The service of a processor that always works, after the check that it does enough in the long run."""
     check_range("speed", speed, GREATEST_SPEED)
     supply = checked_service(tasks, Row.steady(speed))
     check_load(tasks, supply)
@@ -68,7 +68,7 @@ def greatest_lateness(tasks, *, speed=1):
         return None
     demands = demand_row(tasks)
     begin = first_below(Row.steady(0), demands)
-    # The tasks are not overloaded, so behind the start no difference is above the one a period before it.
+    # The utilization is at most the speed, so behind the start no difference is above the one a period before it.
     end = max(begin, demands.start) + demands.period
     differences = [demands(ticks) - supply(ticks) for ticks in range(begin, end)]
     most = max(differences)
