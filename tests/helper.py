@@ -3,6 +3,7 @@
 Everything by chance is drawn from a random.Random with a fixed seed, so each run of the tests is the same.
 """
 
+import sys
 import unittest
 
 from walkdues.cycles import common_period
@@ -176,6 +177,30 @@ def light_task(chance, name):
 
 def single_task(chance, most_cost=99, least_deadline=1):
     return Task.single("s", chance.randint(1, most_cost), chance.randint(least_deadline, 99))
+
+
+def plain_task(chance, most_cost=99, most_deadline=99):
+    """A task with one to four kinds and no arrow."""
+    names = "abcd"[:chance.randint(1, 4)]
+    return Task("plain", [(name, chance.randint(1, most_cost), chance.randint(1, most_deadline)) for name in names])
+
+
+def lines_run(call, *args, **more):
+    """How many lines of Python a call runs: the same count each time, unlike the time that it takes."""
+    count = 0
+
+    def trace(frame, event, value):
+        nonlocal count
+        count += event == "line"
+        return trace
+
+    before = sys.gettrace()
+    sys.settrace(trace)
+    try:
+        call(*args, **more)
+    finally:
+        sys.settrace(before)
+    return count
 
 
 def play(run, key, speed, calendar="1", begin=0):

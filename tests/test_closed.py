@@ -5,13 +5,15 @@ import random
 import unittest
 from fractions import Fraction
 
-from helper import DuesCase, loops, ring, some_task
+from helper import DuesCase, lines_run, loops, plain_task, ring, some_task
 from walkdues.closed import closing, closing_holds, demand_row, task_row
+from walkdues.company import fits, fits_job
 from walkdues.cycles import common_period, rate, utilization
 from walkdues.demand import demand, kind_demands
 from walkdues.errors import TooLong
 from walkdues.rows import Row
 from walkdues.tasks import Task
+from walkdues.verdicts import never_late, slack_row
 
 PUMP = Task("pump", [("a", 2, 3), ("b", 1, 2)], [("a", "b", 2), ("b", "a", 4)])
 SINGLE = Task.single("s", 2, 5)
@@ -195,13 +197,15 @@ class Closing(DuesCase):
         self.assertEqual(closing(PUMP)[2], {"a": 3, "b": 3})
 
 
-class Rows(DuesCase):
+class RowCase(DuesCase):
     def check(self, tasks, row, ticks=1500):
         self.assertIs(type(row), Row)
         self.assertEqual([row(moment) for moment in range(ticks + 1)], demand(tasks, ticks))
         self.assertEqual(Fraction(row.gain, row.period), Fraction(*utilization(tasks)))
         self.assertEqual(common_period(tasks) % row.period, 0)
 
+
+class Rows(RowCase):
     def test_task_rows(self):
         chance = random.Random(65)
         for _ in range(120):
@@ -255,6 +259,64 @@ class Rows(DuesCase):
         tasks = [SINGLE, PUMP, SINGLE]
         demand_row(tasks)
         self.assertEqual(tasks, [SINGLE, PUMP, SINGLE])
+
+
+class WithoutArrows(RowCase):
+    def test_one_task(self):
+        chance = random.Random(67)
+        for most_cost, most_deadline in ((99, 99), (3, 99), (99, 3), (2, 2)):
+            for _ in range(60):
+                task = plain_task(chance, most_cost, most_deadline)
+                self.check([task], task_row(task), 120)
+                self.assertEqual(demand_row([task]), task_row(task))
+
+    def test_lists(self):
+        chance = random.Random(68)
+        for count in (2, 3, 10, 40, 120):
+            for most in (4, 99):
+                tasks = [plain_task(chance, most, most) for _ in range(count)]
+                self.check(tasks, demand_row(tasks), 120)
+                self.check(tasks + tasks[:1], demand_row(tasks + tasks[:1]), 120)
+
+    def test_between_tasks_with_arrows(self):
+        chance = random.Random(69)
+        for _ in range(20):
+            tasks = [plain_task(chance, 20) for _ in range(chance.randint(1, 30))]
+            tasks += [PUMP, CHAIN, loops(9, 5), SLOW][:chance.randint(1, 4)]
+            chance.shuffle(tasks)
+            self.check(tasks, demand_row(tasks), 600)
+
+    def test_kinds_that_add_nothing(self):
+        # The job of the task is one of these, so a kind counts only if it costs more than all that are due earlier.
+        task = Task("t", [("a", 5, 9), ("b", 7, 4), ("c", 7, 6), ("d", 8, 9)])
+        self.assertEqual(task_row(task), Row([0] * 4 + [7] * 5 + [8], 1, 0))
+        self.assertEqual(task_row(Task("t", [("a", 9, 2), ("b", 8, 99)])), Row.step(9, 2))
+        self.assertEqual(task_row(Task("t", [("a", 3, 2), ("b", 9, 2), ("c", 4, 2)])), Row.step(9, 2))
+        self.assertEqual(demand_row([task, task]).head, [0] * 4 + [14] * 5 + [16])
+
+    def test_the_ends_of_the_ranges(self):
+        self.assertEqual(task_row(Task.single("s", 1, 1)), Row.step(1, 1))
+        self.assertEqual(task_row(Task.single("s", 99, 99)), Row.step(99, 99))
+        self.assertEqual(demand_row([Task.single("s", 99, 99)] * 120), Row.step(120 * 99, 99))
+        self.assertEqual(demand_row([Task.single("s", 1, 99), Task.single("s", 99, 1)]).head, [0] + [99] * 98 + [100])
+
+    def test_the_limit_beside_tasks_with_arrows(self):
+        singles = [Task.single("s", 1, deadline) for deadline in range(1, 100)]
+        tasks = [loops(5), loops(7), loops(11), ring(7, 6)]
+        for call in (demand_row, never_late, slack_row):
+            self.assert_error(TooLong, (5005,), call, singles + tasks)
+        self.assertEqual(demand_row(singles + tasks[1:]).period, 1001)
+
+    def test_a_long_list_takes_few_lines(self):
+        # Before such tasks were counted together, each of these calls ran more than 200,000 lines.
+        tasks = [Task.single(f"t{deadline}", 1, deadline) for deadline in range(1, 100)]
+        self.assertLess(lines_run(demand_row, tasks), 10000)
+        self.assertLess(lines_run(never_late, tasks), 10000)
+        self.assertLess(lines_run(slack_row, tasks), 10000)
+        self.assertLess(lines_run(fits, tasks, [Task.single("s", 1, 50)]), 10000)
+        self.assertLess(lines_run(fits_job, tasks, 1, 50), 10000)
+        # With four tasks that have arrows, most of the work is theirs.
+        self.assertLess(lines_run(demand_row, tasks + [PUMP] * 4), 10000 + 4 * lines_run(demand_row, [PUMP]))
 
 
 class Limit(DuesCase):

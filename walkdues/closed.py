@@ -1,6 +1,6 @@
 """Closed rows: the demand of tasks at every tick, told by a first part, a period and a gain."""
 
-from walkdues.cycles import common_period, rates
+from walkdues.cycles import common_period, rates, with_arrows
 from walkdues.demand import kind_demands, task_demands
 from walkdues.rows import Row, check_period
 
@@ -92,6 +92,8 @@ def closing_start(task, period, gains):
 
 def task_row(task):
     """The row of the demands of a task."""
+    if not task.arrows:
+        return plain_row([task])
     start, period, gains = closing(task)
     most = max(gains.values())
     leaders = [kind for kind in gains if gains[kind] == most]
@@ -116,8 +118,26 @@ def columns_from(tables, start):
 def demand_row(tasks):
     """The row of the demands of a list of tasks."""
     check_period(common_period(tasks))
-    total = Row.steady(0)
+    total = plain_row([task for task in tasks if not task.arrows])
     # A sum is as long as its longest part, so the long rows come last.
-    for row in sorted([task_row(task) for task in tasks], key=lambda row: row.start + row.period):
+    for row in sorted([task_row(task) for task in with_arrows(tasks)], key=lambda row: row.start + row.period):
         total = total + row
     return total
+
+
+def plain_row(tasks):
+    """The row of the demands of tasks without arrows."""
+    rises = {}
+    for task in tasks:
+        asked = 0
+        # A walk has one job at most, so of the kinds that are due only the greatest cost counts.
+        for _, cost, deadline in sorted(task.kinds, key=lambda kind: kind[2]):
+            if cost > asked:
+                rises[deadline] = rises.get(deadline, 0) + cost - asked
+                asked = cost
+    total = 0
+    head = []
+    for moment in range(max(list(rises), default=0) + 1):
+        total += rises.get(moment, 0)
+        head.append(total)
+    return Row(head, 1, 0)

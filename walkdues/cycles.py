@@ -85,10 +85,15 @@ def lowest_terms(numerator, denominator):
     return (numerator // divisor, denominator // divisor)
 
 
+def with_arrows(tasks):
+    """The tasks that have arrows: no others have cycles, and in a long list they are few."""
+    return [task for task in tasks if task.arrows]
+
+
 def utilization(tasks):
     """The sum of the utilizations of the tasks, as a tuple in lowest terms."""
     total = (0, 1)
-    for task in tasks:
+    for task in with_arrows(tasks):
         cost, length = greatest_ratio(simple_cycles(task), [kind[0] for kind in task.kinds])
         total = lowest_terms(total[0] * length + cost * total[1], total[1] * length)
     return total
@@ -103,7 +108,7 @@ def critical_cycles(task):
 def common_period(tasks):
     """The least common multiple of the lengths of all critical cycles of the tasks."""
     period = 1
-    for task in tasks:
+    for task in with_arrows(tasks):
         for cycle in critical_cycles(task):
             period = lcm(period, cycle[2])
     return period
